@@ -1,0 +1,1 @@
+"""Samples: labels, boxes, hands, and what half legible labels surely say."""
