@@ -11,6 +11,7 @@ from rocksamples.store import Box, Piece
 MOST_PIECES = 40
 MOST_BOXES = 10
 MOST_HANDINGS = 200
+LAST_MINUTE = 1000000000
 
 
 def sample(store, given):
@@ -176,6 +177,23 @@ def handbox(store, given):
     return [len(labels)]
 
 
+def set_frost(store, given):
+    box = store.boxes[given["b"]]
+    box.frost = given["kept"] == 1
+    return [0]
+
+
+def pass_by(store, given):
+    minute = store.minute + given["minutes"]
+    if minute > LAST_MINUTE:
+        return [-4]
+    store.minute = minute
+    for piece in store.pieces.values():
+        if not piece.gone and not store.is_cold(piece):
+            piece.warm += given["minutes"]
+    return [minute]
+
+
 CHANGES = {
     0: sample,
     1: split_piece,
@@ -190,6 +208,8 @@ CHANGES = {
     10: open_box,
     11: hand,
     12: handbox,
+    13: set_frost,
+    14: pass_by,
 }
 
 

@@ -63,6 +63,17 @@ class Store:
     def is_reachable(self, piece):
         return self.is_open(piece.box)
 
+    # Whether it or a box around it is kept in frost; no box (0) isn't.
+    def is_in_frost(self, number):
+        while number != 0:
+            if self.boxes[number].frost:
+                return True
+            number = self.boxes[number].outer
+        return False
+
+    def is_cold(self, piece):
+        return self.is_in_frost(piece.box)
+
     # A box counts as within itself; no box (0) is within none.
     def is_within(self, inner, number):
         while inner != 0:
@@ -73,6 +84,17 @@ class Store:
 
     def manifest(self, number):
         return sorted([piece.label for piece in self.pieces.values() if self.is_within(piece.box, number)])
+
+    # Pieces are kept in the order in which they were made, so each comes behind the one it was split
+    # from, and one walk finds every generation.
+    def family(self, piece):
+        labels = {piece.label: True}
+        members = [piece]
+        for other in self.pieces.values():
+            if other.source in labels:
+                labels[other.label] = True
+                members.append(other)
+        return members
 
     # The holder is asked for ahead of the box's being left: the box tells it.
     def make_loose(self, piece):
